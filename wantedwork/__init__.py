@@ -1,0 +1,1 @@
+"""Wantedwork: tasks that run only while somebody wants them."""
