@@ -137,7 +137,7 @@ class ParseExpressionTest(ExpressionCase):
         self.assertEqual(parse_expression("(known) + known"), ("plus", "known", "known"))
         self.assertEqual(parse_expression("knownx + unknown"), ("plus", "knownx", "unknown"))
         for text in ("known 1", "known (x)", "known x y", "known known x", "known abcdefghi", "known  x", "known X",
-                     "known ", "reason + ", "unknown x", "knownx y", "known + x y", "a known x"):
+                     "known+x", "known,x", "reason-x", "known(x)", "known ", "reason + ", "unknown x", "knownx y", "known + x y", "a known x"):
             self.assert_no_expression(text)
 
     def test_spaces(self):
@@ -146,7 +146,7 @@ class ParseExpressionTest(ExpressionCase):
             self.assert_no_expression(text)
 
     def test_other_texts(self):
-        for text in ("+", "a +", "+ a", "a + + b", "a b", "()", "(", ")", "(a", "a)", "((a)", "(a))", "a + (b", "a = b",
+        for text in ("+", "a +", "+ a", "a + + b", "a b", "()", "(", ")", "(a", "(a,", "(a]", "(a(", "(a + b,", "a)", "((a)", "(a))", "a + (b", "a = b",
                      "a > b", "a <= b", "a != b", "a / b", "a % b", "a ** b", "a == = b", "-a", "- a", "a, b", "a(b)",
                      "(a)(b)", "(a) b", "a === b", "1 2", "not a", "a & b", "a < = b"):
             self.assert_no_expression(text)
@@ -169,6 +169,8 @@ class ParseExpressionTest(ExpressionCase):
         self.assert_no_expression("a + b + c + d + e + f + g")
         self.assertEqual(parse_expression("a * (b + c + d + e + known f)")[2][2], ("known", "f"))
         self.assert_no_expression("a * (b + c + d + e + f + g)")
+        self.assertEqual(parse_expression("known a + reason b + c + d + e + f")[2], "f")
+        self.assert_no_expression("known a + reason b + c + d + e + f + g")
         self.assert_no_expression(" + ".join(["a"] * 10000))
 
     def test_twenty_parentheses_open_at_a_time(self):
@@ -180,6 +182,8 @@ class ParseExpressionTest(ExpressionCase):
         self.assertEqual(parse_expression(f"{side} + {side} + {side}"), ("plus", ("plus", "a", "a"), "a"))
         self.assertEqual(parse_expression(f"{side[1:-1]} + ({side[1:-1]} + a)"), ("plus", "a", ("plus", "a", "a")))
         self.assert_no_expression(f"a + ({side} + a)")
+        self.assert_no_expression(f"{side} + ({side})")
+        self.assert_no_expression(f"(a) + (a) + ({side})")
 
     def test_by_name(self):
         self.assertEqual(parse_expression(text="a + 1"), ("plus", "a", 1))
@@ -312,7 +316,9 @@ class ProgramTest(ProgramCase):
         for text in ("plan a", "result 1", "  work 1", "plan a\n  work 1", "plan a\nplan b\nresult 1", "result 1\nplan a",
                      "plan a\nresult 1\nresult 1", "plan a\nresult 1\n  work 1", "  work 1\nplan a\nresult 1",
                      "plan a\nresult 1\nplan b", "plan a\nresult 1\n  work 1\nplan b\nresult 1",
-                     "plan a\n  work 1\nplan b\n  work 1\nresult 1", "must a\nmust a\nresult 1"):
+                     "plan a\n  work 1\nplan b\n  work 1\nresult 1", "result a\nresult a", "  work 1\nresult 1",
+                     "plan a b\nmust b\nplan c\nresult 0", "plan a\n  x = 1\nplan x\nplan c\nresult 0",
+                     "plan a\nresult 1\n  work 1\nresult 1", "must a\nmust a\nresult 1"):
             self.assert_line(None, text)
 
     def test_blocks(self):

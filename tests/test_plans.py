@@ -95,6 +95,19 @@ class BodyTest(PlanCase):
         for text in ("", " ", "a ", " a", "x" * 21, "a-b", "a.", "a\n", "a\tb", "say_it", "~", 1, None, b"a", ("a",)):
             self.assert_invalid(("effect", text))
 
+    def test_characters(self):
+        for code in range(ord(" "), ord("~") + 1):
+            character = chr(code)
+            for effect, word in ((character, character), (f"a{character}b", f"a{character}b")):
+                if character.isalnum() or (character == " " and len(effect) > 1):
+                    self.assert_body(("effect", effect))
+                else:
+                    self.assert_invalid(("effect", effect))
+                if character.islower():
+                    self.assert_body(("set", word, 1))
+                else:
+                    self.assert_invalid(("set", word, 1))
+
     def test_set_and_fail(self):
         self.assert_body(("set", "v", 1), ("fail", "v"), ("set", "v", ("plus", "v", 1)))
         for value in NO_WORDS:
@@ -205,6 +218,7 @@ class ExpressionTest(PlanCase):
             for value in NO_WORDS + ("n", "w", 1, ("known", "v")):
                 self.assert_no_result((question, value))
             self.assert_no_result((question,))
+            self.assert_no_result((question + "n", "v"))
             self.assert_no_result((question, "v", "v"))
             self.assert_no_result([question, "v"])
 
@@ -212,6 +226,7 @@ class ExpressionTest(PlanCase):
         for operation in ("plus", "minus", "times", "less", "same"):
             self.assert_result((operation, "n", ("known", "x")))
             self.assert_no_result((operation, "n"))
+            self.assert_no_result((operation, "v"))
             self.assert_no_result((operation, "n", 1, 1))
             self.assert_no_result((operation, "n", "w"))
             self.assert_no_result((operation, "w", "n"))

@@ -161,6 +161,22 @@ class CopyTest(unittest.TestCase):
             self.assertEqual(list(hub.ticks(policy)), list(copied.ticks(policy)))
             self.assertEqual((seen(hub), hub == copied), (seen(copied), True))
 
+    def test_all_that_a_task_remembers(self):
+        program = parse_program("plan p a\n  v = 3\n  call x bad()\n  say a\n  work 2\n  catch x\n  call y bad()\n  work 1\n"
+                                "result a * 1000 + v * 100 + reason x * 10 + known x\nplan bad\n  fail 4\nresult 0")
+        hub = Hub(program)
+        key = hub.ask("ann", "p", 2, urgency=8)
+        for _ in range(7):
+            hub = hub.copy()
+            hub.tick()
+        hub.drop("ann", key)
+        hub.tick()
+        hub = hub.copy()
+        self.assertEqual((hub.rest(key), hub.work_of(key), hub.steps(key), hub.holds(key)), (1, 2, 6, [("bad", ())]))
+        hub.ask("ann", "p", 2)
+        hub.run(9)
+        self.assertEqual((hub.result_of(key), hub.effects, hub.shares), (2340, [(key, "a")], {"ann": (3, 1)}))
+
     def test_numbers_go_on(self):
         hub = busy_hub().copy()
         hub.ask("zed", "q", 78)

@@ -121,7 +121,8 @@ class Hub:
             raise InvalidKey(key)
         if not is_integer(urgency, 0, HIGHEST_URGENCY):
             raise InvalidNumber(urgency)
-        task_with(self._world, key).handed[user] = urgency
+        task = task_with(self._world, key)
+        task.handed[user] = urgency
         self._world.survey = None
         self._world.deeds.append(("ask", user, plan, arguments, urgency))
         return key

@@ -73,9 +73,8 @@ def _instruction_text(instruction):
         return f"catch {variables}"
     if name == "effect":
         return f"say {first}"
-    if name in ("fail", "if", "while"):
-        return f"{name} {format_expression(first)}"
-    return f"{name} {first}"
+    # The number of a work and the variable of a drop are written as expressions, too.
+    return f"{name} {format_expression(first)}"
 
 
 def parse_program(text):
@@ -135,21 +134,19 @@ def _plan(head, rows, result):
 
 
 def _check_depths(depths, instructions):
-    """Raise InvalidText unless the depths are those of blocks, none of which is empty."""
-    depth, begins = 1, True
+    """Raise InvalidText if an instruction is deeper than those in front of it allow."""
+    deepest = 1
     for at, instruction in enumerate(instructions):
-        if depths[at] > depth or (begins and depths[at] != depth):
+        if depths[at] > deepest:
             raise InvalidText(None)
-        begins = instruction[0] in BLOCKS
-        depth = depths[at] + 1 if begins else depths[at]
-    if begins and len(depths) > 0:
-        raise InvalidText(None)
+        deepest = depths[at] + 1 if instruction[0] in BLOCKS else depths[at]
 
 
 def _with_number(instruction, at, depths):
     """Return an instruction at an index; an if or a while gets the number of those in its block."""
     if instruction[0] not in BLOCKS:
         return instruction
+    # The number of an empty block is 0, with which the plan is invalid.
     end = at + 1
     while end < len(depths) and depths[end] > depths[at]:
         end += 1

@@ -37,7 +37,8 @@ def _make_step(world, task):
         world.survey = None
     elif is_waiting(world, task):
         # Nothing else in the survey has changed.
-        surveyed(world).able.pop(task.key, None)
+        able = surveyed(world).able
+        able.pop(task.key, None)
 
 
 def _execute(world, task):
