@@ -21,8 +21,9 @@ def random_expression(random, arguments, variables, deepest):
 class BodyMaker:
     """Makes a random body."""
 
-    def __init__(self, random, arguments, sizes, words, deepest):
+    def __init__(self, random, arguments, sizes, words, deepest, determinate):
         self.random = random
+        self.determinate = determinate
         self.arguments = arguments
         self.sizes = sizes
         self.words = words
@@ -84,7 +85,8 @@ class BodyMaker:
 
     def wait(self):
         variables = self.variables()
-        return "wait", self.random.randint(1, len(variables)), variables
+        number = len(variables) if self.determinate else self.random.randint(1, len(variables))
+        return "wait", number, variables
 
     def catch(self):
         return "catch", self.variables()
@@ -96,15 +98,15 @@ class BodyMaker:
         return "effect", self.random.choice(("a", "Say 2", "x  y", "Z"))
 
 
-def random_plan(random, sizes, name, most=10, deepest=3, words=("u", "v", "w", "known", "plus", "say")):
+def random_plan(random, sizes, name, most=10, deepest=3, determinate=False):
     """Return a plan that calls plans with these numbers of arguments, itself among them."""
     arguments = tuple(random.sample(("a", "b", "reason", "less"), sizes[name]))
-    maker = BodyMaker(random, arguments, sizes, words, deepest)
+    maker = BodyMaker(random, arguments, sizes, ("u", "v", "w", "known", "plus", "say"), deepest, determinate)
     body = maker.block(random.randint(0, most), 0)
     return Plan(arguments, body, maker.expression(), must_finish=random.random() < 0.3)
 
 
-def random_program(random, plans=4, most=10, deepest=3):
-    """Return a program of some plans."""
+def random_program(random, plans=4, most=10, deepest=3, determinate=False):
+    """Return a program of some plans, all of them determinate or not."""
     sizes = {name: random.choice((0, 1, 1, 2)) for name in ("pa", "qb", "rc", "must", "plan", "t")[:plans]}
-    return Program({name: random_plan(random, sizes, name, most, deepest) for name in sizes})
+    return Program({name: random_plan(random, sizes, name, most, deepest, determinate) for name in sizes})

@@ -43,7 +43,48 @@ COSTS = r"""
 (11, {'ann': (7, 1), 'bob': (2, 1), None: (2, 1)}, 'done')
 """
 
-EXAMPLES = {"plans": PLANS, "language": LANGUAGE, "policies": POLICIES, "costs": COSTS}
+URGENCY = r"""
+>>> from wantedwork.hubs import Hub
+>>> from wantedwork.language import parse_program
+>>> from wantedwork.urging import are_bounds, urgency, urgency_chain
+>>> from wantedwork.wanting import chain, is_cut, paused, users_of
+>>> hub = Hub(parse_program('plan part\n  work 4\nresult 1\nplan whole\n  call x part()\n  wait 1 of x\nresult x'))
+>>> whole, part = hub.ask('ann', 'whole', urgency=3), hub.ask('bob', 'part', urgency=1)
+>>> hub.pick(whole)
+>>> (urgency(hub, part), urgency_chain(hub, part), users_of(hub, part), are_bounds(hub, {whole: 3, part: 3}))
+(3, ['ann', ('whole', ()), ('part', ())], ['ann', 'bob'], True)
+>>> hub.drop('ann', whole)
+>>> (paused(hub), is_cut(hub, [whole]), chain(hub, part), chain(hub, whole))
+([('whole', ())], True, ['bob', ('part', ())], None)
+"""
+
+STUCK = r"""
+>>> from wantedwork.hubs import Hub
+>>> from wantedwork.language import parse_program
+>>> from wantedwork.stopping import is_stuck_set, ring, stuck
+>>> hub = Hub(parse_program('plan left\n  call x right()\n  wait 1 of x\nresult x\nplan right\n  call x left()\n  catch x\nresult reason x'))
+>>> key = hub.ask('ann', 'left')
+>>> (hub.run(100), stuck(hub), ring(hub), is_stuck_set(hub, [key]))
+(2, [('left', ()), ('right', ())], [('left', ()), ('right', ())], False)
+"""
+
+DIRECT = r"""
+>>> from wantedwork.directly import needed, outcome_of
+>>> from wantedwork.language import parse_program
+>>> program = parse_program('plan fib n\n  if 1 < n\n    call x fib(n - 1)\n    call y fib(n - 2)\n    wait 2 of x, y\nresult n * (n < 2) + x + y\nplan safe\n  call x bad()\n  catch x\nresult reason x + 1\nplan bad\n  fail 7\nresult 0')
+>>> (outcome_of(program, 'fib', 50), needed(program, 'fib', 2), outcome_of(program, 'safe'))
+(('done', 586268941), [('fib', (2,)), ('fib', (1,)), ('fib', (0,))], ('done', 8))
+"""
+
+EXAMPLES = {
+    "plans": PLANS,
+    "language": LANGUAGE,
+    "policies": POLICIES,
+    "urgency": URGENCY,
+    "costs": COSTS,
+    "stuck": STUCK,
+    "direct": DIRECT,
+}
 
 
 class ExamplesTest(unittest.TestCase):

@@ -15,6 +15,29 @@ FUNCTIONS = {
         "format_program": "(program)",
         "parse_program": "(text)",
     },
+    "wantedwork.wanting": {
+        "wanted": "(hub)",
+        "paused": "(hub)",
+        "is_wanted": "(hub, key)",
+        "users_of": "(hub, key)",
+        "chain": "(hub, key)",
+        "is_chain": "(hub, key, value)",
+        "is_cut": "(hub, value)",
+    },
+    "wantedwork.urging": {
+        "urgency": "(hub, key)",
+        "urgency_chain": "(hub, key)",
+        "are_bounds": "(hub, value)",
+    },
+    "wantedwork.stopping": {
+        "stuck": "(hub)",
+        "is_stuck_set": "(hub, value)",
+        "ring": "(hub)",
+    },
+    "wantedwork.directly": {
+        "outcome_of": "(program, plan, *arguments)",
+        "needed": "(program, plan, *arguments)",
+    },
 }
 CLASSES = {
     ("wantedwork.plans", "Plan"): {

@@ -8,25 +8,26 @@ from wantedwork.errors import (
     InvalidPolicy,
     InvalidProgram,
     NotHeld,
-    UnknownTask,
 )
 from wantedwork.plans import Program
 from wantedwork.steps import make_tick
 from wantedwork.surveys import selected, surveyed
 from wantedwork.trials import Trial
-from wantedwork.words import has_key_form, is_integer, is_word
-from wantedwork.worlds import World, copied_world, held_by, is_waiting, task_with
+from wantedwork.words import is_integer, is_word
+from wantedwork.worlds import (
+    HIGHEST_URGENCY,
+    World,
+    can_have,
+    copied_world,
+    has_task,
+    held_by,
+    is_waiting,
+    known_task,
+    task_with,
+)
 
 LONGEST_PATIENCE = 1000
-HIGHEST_URGENCY = 9
 MOST_TICKS = 10000
-
-
-def _fits(program, key):
-    """Tell whether a value is the key of a task that a program can have."""
-    if not has_key_form(key) or key[0] not in program.names:
-        return False
-    return len(key[1]) == len(program[key[0]].arguments)
 
 
 class Hub:
@@ -92,8 +93,7 @@ class Hub:
         return len(self._world.by_key)
 
     def __contains__(self, value):
-        # Python calls True equal to 1, so that looking the value up is not enough.
-        return has_key_form(value) and value in self._world.by_key
+        return has_task(self._world, value)
 
     def __eq__(self, other):
         return (
@@ -103,12 +103,6 @@ class Hub:
             and self._world.deeds == other._world.deeds
         )
 
-    def _task(self, key):
-        """Return the task with a key; raise UnknownTask if there is none."""
-        if key not in self:
-            raise UnknownTask(key)
-        return self._world.by_key[key]
-
     def _is_held(self, user, key):
         return key in self and user in self._world.by_key[key].handed
 
@@ -117,7 +111,7 @@ class Hub:
         if not is_word(user):
             raise InvalidName(user)
         key = (plan, arguments)
-        if not _fits(self._program, key):
+        if not can_have(self._program, key):
             raise InvalidKey(key)
         if not is_integer(urgency, 0, HIGHEST_URGENCY):
             raise InvalidNumber(urgency)
@@ -133,7 +127,7 @@ class Hub:
             raise InvalidName(user)
         if not self._is_held(user, key):
             raise NotHeld(key)
-        task = self._task(key)
+        task = known_task(self._world, key)
         del task.handed[user]
         self._world.survey = None
         self._world.deeds.append(("drop", user, task.key))
@@ -145,7 +139,7 @@ class Hub:
                 raise InvalidName(name)
         if not self._is_held(user, key):
             raise NotHeld(key)
-        task = self._task(key)
+        task = known_task(self._world, key)
         task.handed[other] = task.handed.pop(user)
         self._world.survey = None
         self._world.deeds.append(("pass", user, other, task.key))
@@ -158,7 +152,7 @@ class Hub:
 
     def state(self, key):
         """Return "new", "ready", "waiting", "done" or "failed"."""
-        task = self._task(key)
+        task = known_task(self._world, key)
         if task.ending != "":
             return task.ending
         if task.moves == 0:
@@ -167,29 +161,29 @@ class Hub:
 
     def result_of(self, key):
         """Return the result of a task that is done, otherwise None."""
-        task = self._task(key)
+        task = known_task(self._world, key)
         return task.outcome if task.ending == "done" else None
 
     def reason_of(self, key):
         """Return the reason of a task that has failed, otherwise None."""
-        task = self._task(key)
+        task = known_task(self._world, key)
         return task.outcome if task.ending == "failed" else None
 
     def holds(self, key):
         """Return the list of the tasks that a task holds, by their numbers."""
-        return held_by(self._world, self._task(key))
+        return held_by(self._world, known_task(self._world, key))
 
     def steps(self, key):
         """Return how many steps a task has made."""
-        return self._task(key).moves
+        return known_task(self._world, key).moves
 
     def work_of(self, key):
         """Return the cost that was charged for a task since it was created."""
-        return self._task(key).paid
+        return known_task(self._world, key).paid
 
     def rest(self, key):
         """Return the rest of a task."""
-        return self._world.rests.get(self._task(key).key, 0)
+        return self._world.rests.get(known_task(self._world, key).key, 0)
 
     def tick(self, policy="oldest"):
         """Make a tick; return the key of the task that made a step, or None."""
@@ -222,7 +216,7 @@ class Hub:
 
     def pick(self, key):
         """Make a tick at which a task makes a step that is wanted and can go on."""
-        task = self._task(key)
+        task = known_task(self._world, key)
         if task.key not in surveyed(self._world).able:
             raise InvalidPolicy(key)
         make_tick(self._world, task.key)

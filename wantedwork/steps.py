@@ -1,10 +1,9 @@
 """Steps of tasks, and ticks."""
 
+from wantedwork.acting import act, called_key
 from wantedwork.costs import charge
-from wantedwork.expressions import evaluate
-from wantedwork.instructions import index_behind
 from wantedwork.surveys import surveyed
-from wantedwork.worlds import endings_of, is_waiting, task_with
+from wantedwork.worlds import is_waiting, next_instruction, task_with
 
 
 def make_tick(world, chosen):
@@ -28,11 +27,11 @@ def _forget(world):
 
 def _make_step(world, task):
     held = {**task.ties}
-    if task.at == len(task.plan.body):
-        _end(world, task, "done", _value(task, task.plan.result))
-    else:
-        _execute(world, task)
+    _reach_out(world, task)
+    act(world.by_key, task)
     task.moves += 1
+    if task.ending == "done":
+        world.told.extend([(task.key, text) for text in task.noted])
     if task.ending != "" or task.ties != held:
         world.survey = None
     elif is_waiting(world, task):
@@ -41,122 +40,12 @@ def _make_step(world, task):
         able.pop(task.key, None)
 
 
-def _execute(world, task):
-    instruction = task.plan.body[task.at]
-    action = ACTIONS[instruction[0]]
-    skipped = action(world, task, instruction)
-    task.at = index_behind(task.plan.body, task.at, skipped)
-
-
-def _value(task, expression):
-    return evaluate(expression, task.worth, task.reasons)
-
-
-def _end(world, task, ending, outcome):
-    """End a task."""
-    task.ending = ending
-    task.outcome = outcome
-    task.ties = {}
-    if ending == "done":
-        world.told.extend([(task.key, text) for text in task.noted])
-
-
-def _lose(task, variable):
-    """Take a variable's value, reason and tie away."""
-    task.worth.pop(variable, None)
-    task.reasons.pop(variable, None)
-    task.ties.pop(variable, None)
-
-
-def _learn(world, task, variable):
-    """Give a variable the result or the reason of the task it is tied to."""
-    other = world.by_key[task.ties[variable]]
-    if other.ending == "done":
-        task.worth[variable] = other.outcome
-    else:
-        task.reasons[variable] = other.outcome
-
-
-def _untie(task, variables):
-    for variable in variables:
-        task.ties.pop(variable, None)
-
-
-# Each action executes an instruction of a task, and returns whether its block is skipped.
-
-
-def _work(world, task, instruction):
-    charge(world, task, instruction[1])
-    return False
-
-
-def _set(world, task, instruction):
-    _, variable, expression = instruction
-    value = _value(task, expression)
-    _lose(task, variable)
-    task.worth[variable] = value
-    return False
-
-
-def _fail(world, task, instruction):
-    _end(world, task, "failed", _value(task, instruction[1]))
-    return False
-
-
-def _call(world, task, instruction):
-    _, variable, plan, expressions = instruction
-    key = (plan, tuple([_value(task, expression) for expression in expressions]))
-    task_with(world, key)
-    _lose(task, variable)
-    task.ties[variable] = key
-    return False
-
-
-def _wait(world, task, instruction):
-    _, number, variables = instruction
-    endings = endings_of(world, task, variables)
-    if endings.count("done") < number:
-        first_failed = variables[endings.index("failed")]
-        _end(world, task, "failed", world.by_key[task.ties[first_failed]].outcome)
-        return False
-    for variable, ending in zip(variables, endings):
-        if ending == "done":
-            _learn(world, task, variable)
-    _untie(task, variables)
-    return False
-
-
-def _catch(world, task, instruction):
-    variables = instruction[1]
-    for variable in variables:
-        _learn(world, task, variable)
-    _untie(task, variables)
-    return False
-
-
-def _drop(world, task, instruction):
-    _untie(task, [instruction[1]])
-    return False
-
-
-def _note(world, task, instruction):
-    task.noted.append(instruction[1])
-    return False
-
-
-def _enter(world, task, instruction):
-    return _value(task, instruction[1]) == 0
-
-
-ACTIONS = {
-    "work": _work,
-    "set": _set,
-    "fail": _fail,
-    "call": _call,
-    "wait": _wait,
-    "catch": _catch,
-    "drop": _drop,
-    "effect": _note,
-    "if": _enter,
-    "while": _enter,
-}
+def _reach_out(world, task):
+    """Do what the next instruction of a task does beyond the task; with LimitExceeded nothing has changed."""
+    instruction = next_instruction(task)
+    if instruction is None:
+        return
+    if instruction[0] == "work":
+        charge(world, task, instruction[1])
+    elif instruction[0] == "call":
+        task_with(world, called_key(task, instruction))

@@ -1,6 +1,6 @@
 """Which tasks of a world are wanted, how urgently, by which users, and which one a policy selects."""
 
-from wantedwork.worlds import is_waiting
+from wantedwork.worlds import holders_of, is_waiting
 
 
 class Survey:
@@ -26,11 +26,16 @@ def surveyed(world):
     return world.survey
 
 
+def must_go_on(task):
+    """Tell whether an unfinished task is wanted because it has begun something that must be finished."""
+    return task.plan.must_finish and task.moves > 0
+
+
 def _urgency_alone(task):
     """Return the urgency for which an unfinished task is wanted whoever holds it, or None."""
     if len(task.handed) > 0:
         return max(task.handed.values())
-    return -1 if task.plan.must_finish and task.moves > 0 else None
+    return -1 if must_go_on(task) else None
 
 
 def _urgencies_of_wanted(world):
@@ -59,10 +64,7 @@ def _pass_on(world, start, urgency, found):
 
 def reaching_users(world, key):
     """Return the ascending list of the users that reach an unfinished task."""
-    holders = {held: [] for held in world.by_key}
-    for task in world.by_key.values():
-        for held in task.ties.values():
-            holders[held].append(task.key)
+    holders = holders_of(world)
     above = {}
     pile = [key]
     while len(pile) > 0:

@@ -1,8 +1,10 @@
 """The world of a hub: its tasks, and all else that deeds change."""
 
-from wantedwork.errors import LimitExceeded
+from wantedwork.errors import LimitExceeded, UnknownTask
+from wantedwork.words import has_key_form
 
 MOST_TASKS = 500
+HIGHEST_URGENCY = 9
 
 
 class Task:
@@ -49,6 +51,38 @@ class World:
         self.survey = None
 
 
+def can_have(program, value):
+    """Tell whether any value is the key of a task that a program can have."""
+    if not has_key_form(value) or value[0] not in program.names:
+        return False
+    return len(value[1]) == len(program[value[0]].arguments)
+
+
+def has_task(world, value):
+    """Tell whether any value is the key of a task."""
+    # Python calls True equal to 1, so that looking the value up is not enough.
+    return has_key_form(value) and value in world.by_key
+
+
+def known_task(world, key):
+    """Return the task with a key; raise UnknownTask if there is none."""
+    if not has_task(world, key):
+        raise UnknownTask(key)
+    return world.by_key[key]
+
+
+def lists_unfinished(world, value):
+    """Tell whether any value is a list of keys of unfinished tasks."""
+    if not isinstance(value, list):
+        return False
+    return all([has_task(world, key) and world.by_key[key].ending == "" for key in value])
+
+
+def are_different(keys):
+    """Tell whether no two of some keys are the same."""
+    return len(set(keys)) == len(keys)
+
+
 def task_with(world, key):
     """Return the task with a key, which is created if there is none; raise LimitExceeded without room."""
     if key not in world.by_key:
@@ -65,21 +99,36 @@ def held_by(world, task):
     return [numbered[number] for number in sorted(numbered)]
 
 
-def endings_of(world, task, variables):
+def holders_of(world):
+    """Return a dict from all keys to the lists of the keys of the tasks that hold each one."""
+    holders = {held: [] for held in world.by_key}
+    for task in world.by_key.values():
+        for held in task.ties.values():
+            holders[held].append(task.key)
+    return holders
+
+
+def next_instruction(task):
+    """Return the instruction that a task executes in its next step, None if none is left."""
+    body = task.plan.body
+    return body[task.at] if task.at < len(body) else None
+
+
+def endings_of(by_key, task, variables):
     """Return for each variable how the task it is tied to has ended, "" if it has not, or if there is none."""
     keys = [task.ties.get(variable) for variable in variables]
-    return ["" if key is None else world.by_key[key].ending for key in keys]
+    return ["" if key is None else by_key[key].ending for key in keys]
 
 
 def is_waiting(world, task):
     """Tell whether a task makes no step before others are over."""
-    if task.ending != "" or task.at == len(task.plan.body):
+    instruction = next_instruction(task)
+    if task.ending != "" or instruction is None:
         return False
-    instruction = task.plan.body[task.at]
     if instruction[0] == "wait":
-        endings = endings_of(world, task, instruction[2])
+        endings = endings_of(world.by_key, task, instruction[2])
         return "" in endings and endings.count("done") < instruction[1]
-    return instruction[0] == "catch" and "" in endings_of(world, task, instruction[1])
+    return instruction[0] == "catch" and "" in endings_of(world.by_key, task, instruction[1])
 
 
 def copied_task(task):
