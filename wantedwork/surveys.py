@@ -32,7 +32,7 @@ def must_go_on(task):
 
 
 def _urgency_alone(task):
-    """Return the urgency for which an unfinished task is wanted whoever holds it, or None."""
+    """Return the urgency for which a task is wanted whoever holds it, if it is unfinished, or None."""
     if len(task.handed) > 0:
         return max(task.handed.values())
     return -1 if must_go_on(task) else None
@@ -41,7 +41,7 @@ def _urgency_alone(task):
 def _urgencies_of_wanted(world):
     starts = []
     for key, task in world.by_key.items():
-        urgency = _urgency_alone(task) if task.ending == "" else None
+        urgency = _urgency_alone(task)
         if urgency is not None:
             starts.append((-urgency, task.number, key))
     found = {}

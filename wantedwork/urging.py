@@ -15,9 +15,8 @@ def urgency(hub, key):
 
 def urgency_chain(hub, key):
     """Return a list (user, key, ..) that shows the urgency of a task, None if it is -1."""
+    # No handle has the urgency -1, so that there is no first then.
     greatest = urgency(hub, key)
-    if greatest == -1:
-        return None
     firsts = {}
     for at, task in hub._world.by_key.items():
         users = [user for user in sorted(task.handed) if task.handed[user] == greatest]

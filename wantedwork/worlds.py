@@ -121,9 +121,9 @@ def endings_of(by_key, task, variables):
 
 
 def is_waiting(world, task):
-    """Tell whether a task makes no step before others are over."""
+    """Tell whether an unfinished task makes no step before others are over."""
     instruction = next_instruction(task)
-    if task.ending != "" or instruction is None:
+    if instruction is None:
         return False
     if instruction[0] == "wait":
         endings = endings_of(world.by_key, task, instruction[2])
