@@ -133,7 +133,9 @@ class Model:
         return [task for task in self.tasks if task in wanted and not self.waiting(task)]
 
     def select(self, policy):
-        able = self.able()
+        return self.select_among(self.able(), policy)
+
+    def select_among(self, able, policy):
         if not able:
             return None
         if policy == "newest":

@@ -1,4 +1,4 @@
-"""The examples of the document that use the modules that are there, as they stand in it."""
+"""The examples of the document, as they stand in it."""
 
 import doctest
 import unittest
@@ -76,6 +76,39 @@ DIRECT = r"""
 (('done', 586268941), [('fib', (2,)), ('fib', (1,)), ('fib', (0,))], ('done', 8))
 """
 
+CREWS = r"""
+>>> from wantedwork.crews import Crew
+>>> from wantedwork.hubs import Hub
+>>> from wantedwork.language import parse_program
+>>> hub = Hub(parse_program('plan one\n  work 1\nresult 1\nplan two\n  work 2\nresult 2'))
+>>> one, two = hub.ask('ann', 'one'), hub.ask('ann', 'two')
+>>> crew = Crew(hub, 3)
+>>> (crew.begin(0), crew.begin(1), crew.begin(2), crew.crash(0), crew.begin(2), crew.finish(1), crew.leases())
+(('one', ()), ('two', ()), None, None, ('one', ()), ('two', ()), {2: ('one', ())})
+"""
+
+LOGS = r"""
+>>> from wantedwork.hubs import Hub
+>>> from wantedwork.language import parse_program
+>>> from wantedwork.logs import journal, recovered
+>>> program = parse_program('plan a\n  work 1\nresult 1')
+>>> hub = Hub(program)
+>>> key, step = hub.ask('b', 'a', urgency=2), hub.tick()
+>>> (journal(hub), recovered(program, journal(hub)[:-1]) == (hub, 2), recovered(program, journal(hub)[:-1])[1])
+('0 ask b 2 a() #2374\n1 tick oldest #2069\n', False, 1)
+"""
+
+CONSOLE = r"""
+>>> from wantedwork.console import Console
+>>> from wantedwork.language import format_program, parse_program
+>>> program = parse_program('must add a b\n  work 3\n  say sum\nresult a + b')
+>>> console = Console(program)
+>>> [console.execute(line) for line in ('ask ann 2 add(1,2)', 'tick fair', 'why add(1,2)', 'drop ann add(1,2)', 'why add(1,2)', 'run 9 oldest', 'result add(1,2)', 'cost', 'effects')]
+['add(1,2)', 'add(1,2)', 'ann add(1,2)', 'ok', '- add(1,2)', '2', '3', '3 ann=3/1', 'add(1,2):sum']
+>>> format_program(program)
+'must add a b\n  work 3\n  say sum\nresult a + b'
+"""
+
 EXAMPLES = {
     "plans": PLANS,
     "language": LANGUAGE,
@@ -84,6 +117,9 @@ EXAMPLES = {
     "costs": COSTS,
     "stuck": STUCK,
     "direct": DIRECT,
+    "crews": CREWS,
+    "logs": LOGS,
+    "console": CONSOLE,
 }
 
 

@@ -38,6 +38,17 @@ FUNCTIONS = {
         "outcome_of": "(program, plan, *arguments)",
         "needed": "(program, plan, *arguments)",
     },
+    "wantedwork.logs": {
+        "replayed": "(program, log, *, patience=10)",
+        "rehearsed": "(hub, deeds)",
+        "journal": "(hub)",
+        "recovered": "(program, text, *, patience=10)",
+    },
+    "wantedwork.accounts": {
+        "account": "(hub)",
+        "is_account": "(value, patience)",
+        "shares_of": "(value, patience)",
+    },
 }
 CLASSES = {
     ("wantedwork.plans", "Plan"): {
@@ -69,6 +80,19 @@ CLASSES = {
         "pick": "(self, key)",
         "trial": "(self)",
         "copy": "(self)",
+    },
+    ("wantedwork.crews", "Crew"): {
+        "__init__": "(self, hub, workers, *, time=20)",
+        "hub": None, "__len__": "",
+        "leases": "(self)",
+        "begin": "(self, worker, policy='oldest')",
+        "finish": "(self, worker)",
+        "crash": "(self, worker)",
+    },
+    ("wantedwork.console", "Console"): {
+        "__init__": "(self, program, *, patience=10)",
+        "hub_copy": "(self)",
+        "execute": "(self, line)",
     },
 }
 

@@ -30,6 +30,12 @@ LONGEST_PATIENCE = 1000
 MOST_TICKS = 10000
 
 
+def check_policy(value):
+    """Raise InvalidPolicy for any value that is no policy."""
+    if not isinstance(value, str) or value not in Hub.POLICIES:
+        raise InvalidPolicy(value)
+
+
 class Hub:
     """Tasks of a program, which make steps only while they are wanted."""
 
@@ -187,15 +193,11 @@ class Hub:
 
     def tick(self, policy="oldest"):
         """Make a tick; return the key of the task that made a step, or None."""
-        self._check_policy(policy)
+        check_policy(policy)
         key = selected(self._world, policy)
         make_tick(self._world, key)
         self._world.deeds.append(("tick", policy))
         return key
-
-    def _check_policy(self, policy):
-        if not isinstance(policy, str) or policy not in self.POLICIES:
-            raise InvalidPolicy(policy)
 
     def ticks(self, policy="oldest"):
         """Yield the results of ticks until one is None."""
@@ -208,7 +210,7 @@ class Hub:
         """Make ticks until one returns None, but at most so many; return how many steps were made."""
         if not is_integer(most, 0, MOST_TICKS):
             raise InvalidNumber(most)
-        self._check_policy(policy)
+        check_policy(policy)
         made = 0
         while made < most and self.tick(policy) is not None:
             made += 1

@@ -1,7 +1,7 @@
 """Instructions: which values are some, and which one is executed behind which."""
 
 from wantedwork.expressions import is_expression
-from wantedwork.words import is_effect, is_integer, is_word
+from wantedwork.words import is_effect, is_integer, is_word, name_of
 
 BLOCKS = ("if", "while")
 MOST_EXPRESSIONS = 3
@@ -119,10 +119,8 @@ CHECKS = {
 
 def is_instruction(value, scope):
     """Tell whether any value is an instruction that may stand where the scope is."""
-    if not isinstance(value, tuple) or len(value) == 0:
-        return False
-    name = value[0]
-    if not isinstance(name, str) or name not in CHECKS or len(value) != SIZES[name]:
+    name = name_of(value)
+    if name not in CHECKS or len(value) != SIZES[name]:
         return False
     check = CHECKS[name]
     return check(value, scope)

@@ -3,9 +3,8 @@
 from wantedwork.errors import InvalidName, InvalidPlan, InvalidProgram
 from wantedwork.expressions import is_expression
 from wantedwork.instructions import Scope, is_instruction
-from wantedwork.words import is_word
+from wantedwork.words import MOST_ARGUMENTS, is_word
 
-MOST_ARGUMENTS = 3
 MOST_INSTRUCTIONS = 24
 MOST_PLANS = 20
 

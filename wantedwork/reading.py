@@ -1,4 +1,4 @@
-"""Reading numbers, words and expressions; what has not their form raises InvalidText(None)."""
+"""Reading numbers, words, keys and expressions; what has not their form raises InvalidText(None)."""
 
 from wantedwork.errors import InvalidText
 from wantedwork.expressions import DEEPEST, QUESTIONS
@@ -29,6 +29,29 @@ def read_word(text):
 def read_words(text):
     """Return the tuple of the words that a text lists, separated by commas."""
     return tuple([read_word(word) for word in text.split(", ")])
+
+
+def read_key(text):
+    """Return the key that a text is, with any number of numbers."""
+    plan, _, rest = text.partition("(")
+    if not rest.endswith(")"):
+        raise InvalidText(None)
+    numbers = [] if rest == ")" else rest[:-1].split(",")
+    return read_word(plan), tuple([read_number(number) for number in numbers])
+
+
+KINDS = {"word": read_word, "number": read_number, "key": read_key}
+
+
+def read_values(words, kinds):
+    """Return the tuple of the values that words are, one for each of some kinds."""
+    if len(words) != len(kinds):
+        raise InvalidText(None)
+    values = []
+    for word, kind in zip(words, kinds):
+        reader = KINDS[kind]
+        values.append(reader(word))
+    return tuple(values)
 
 
 def read_expression(text):

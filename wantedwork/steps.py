@@ -10,14 +10,14 @@ def make_tick(world, chosen):
     """Make a tick at which the task with a key, or none, makes a step; LimitExceeded changes nothing."""
     if chosen is not None:
         _make_step(world, world.by_key[chosen])
+    end_tick(world)
+
+
+def end_tick(world):
+    """Count a tick, let the paused tasks rest, and forget those that have rested for too long."""
     world.now += 1
     paused = surveyed(world).paused_keys
     world.rests = {key: world.rests.get(key, 0) + 1 for key in paused}
-    _forget(world)
-
-
-def _forget(world):
-    """Forget the tasks that have rested for too long."""
     forgotten = [key for key in world.rests if world.rests[key] > world.longest_rest]
     for key in forgotten:
         del world.rests[key]

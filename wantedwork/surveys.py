@@ -75,10 +75,13 @@ def reaching_users(world, key):
     return sorted({user for holder in above for user in world.by_key[holder].handed})
 
 
-def selected(world, policy):
-    """Return the key of the task that a policy selects, or None."""
+def selected(world, policy, taken=()):
+    """Return the key of the task that a policy selects among those that are not taken, or None."""
     survey = surveyed(world)
-    ranks = [(_rank(policy, task, survey.urgencies[key]), task.number, key) for key, task in survey.able.items()]
+    ranks = []
+    for key, task in survey.able.items():
+        if key not in taken:
+            ranks.append((_rank(policy, task, survey.urgencies[key]), task.number, key))
     return min(ranks)[2] if len(ranks) > 0 else None
 
 

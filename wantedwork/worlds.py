@@ -88,9 +88,14 @@ def task_with(world, key):
     if key not in world.by_key:
         if len(world.by_key) == MOST_TASKS:
             raise LimitExceeded(MOST_TASKS)
-        world.by_key[key] = Task(world.created, key, world.source[key[0]])
-        world.created += 1
+        create_task(world, key, world.source[key[0]])
     return world.by_key[key]
+
+
+def create_task(world, key, plan):
+    """Create the task with a key."""
+    world.by_key[key] = Task(world.created, key, plan)
+    world.created += 1
 
 
 def held_by(world, task):
