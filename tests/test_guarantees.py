@@ -226,6 +226,39 @@ class GuaranteesTest(unittest.TestCase):
             self.assertEqual(list(shares_of(told, hub.patience).items()), list(hub.shares.items()))
 
 
+class KeysTest(unittest.TestCase):
+    def test_keys_with_no_number_up_to_three(self):
+        program = parse_program("plan p\n  call x q(4)\n  wait 1 of x\nresult x\nplan q a\n  call x r(a, 5)\n  wait 1 of x\nresult x\n"
+                                "plan r a b\n  call x s(a, b, 1000000006)\n  wait 1 of x\nresult x\n"
+                                "plan s a b c\n  work 6\n  say hi\nresult a + b + c")
+        keys = [("p", ()), ("q", (4,)), ("r", (4, 5)), ("s", (4, 5, 1000000006))]
+        texts = ["p()", "q(4)", "r(4,5)", "s(4,5,1000000006)"]
+        hub, console = Hub(program), Console(program)
+        crew = Crew(hub, 4)
+        for key, text in zip(keys, texts):
+            self.assertEqual((hub.ask("ann", key[0], *key[1]), console.execute(f"ask ann 0 {text}")), (key, text))
+        self.assertEqual([crew.begin(worker) for worker in range(4)], keys)
+        self.assertEqual(crew.leases(), dict(enumerate(keys)))
+        for worker, (key, text) in enumerate(zip(keys, texts)):
+            self.assertEqual((crew.finish(worker), console.execute(f"pick {text}")), (key, text))
+        for key, text in zip(keys[1:], texts[1:]):
+            hub.pass_on("ann", "bob", key)
+            hub.drop("bob", key)
+            self.assertEqual([console.execute(f"pass ann bob {text}"), console.execute(f"drop bob {text}")], ["ok", "ok"])
+        self.assertEqual((chain(hub, keys[3]), console.execute(f"why {texts[3]}")), (["ann", *keys], " ".join(["ann", *texts])))
+        self.assertEqual((wanted(hub), console.execute("wanted")), (keys, " ".join(texts)))
+        self.assertEqual(hub.run(99), int(console.execute("run 99 oldest")))
+        self.assertEqual((hub.effects, console.execute("effects")), ([(keys[3], "hi")], f"{texts[3]}:hi"))
+        self.assertEqual((hub.result_of(keys[0]), console.execute("result p()")), (8, "8"))
+        self.assertIs(console.hub_copy() == hub, True)
+        self.assertEqual(recovered(program, journal(hub)), (hub, len(hub.log)))
+        self.assertEqual([line.split(" ")[-2] for line in journal(hub).split("\n")[:8]], texts + texts)
+        told = account(hub)
+        self.assertEqual(told[:4], [("ask", "ann", key, 0) for key in keys])
+        self.assertEqual([item[1:3] for item in told[4:8]], [(key, (held,)) for key, held in zip(keys, keys[1:])] + [(keys[3], ())])
+        self.assertEqual((is_account(told, 10), shares_of(told, 10)), (True, {"ann": (6, 1)}))
+
+
 class NewValuesTest(unittest.TestCase):
     def test_returned_lists_and_dicts_are_new(self):
         program = parse_program("plan job\n  work 3\n  say hi\nresult 1\nplan boss\n  call x job()\n  wait 1 of x\nresult x")
